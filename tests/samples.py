@@ -1,0 +1,129 @@
+"""Things that several tests build on."""
+
+import random
+
+# Things of many kinds; none of them is a word, a deal, a town, a deed, a letter or a pile.
+ODDITIES = [
+    None, True, False, 0, 1, -1, 7, 10 ** 29, "", " ", "\n", "A", "a b", "a1", "a-b", "abcdefghijklm", b"", b"abc",
+    (), ((),), (None,), (1,), ("a",), (True, False), ([],), ({},), (("a",), ("b",)), ("a", "b", 1), ("a", "b", 0),
+    [None], [1], ["a"], [[]], [()], [("a",)], {}, {"a": 1}, {1: "a"}, {None: ()}, {(): ()}, set(), {"a"}, {1, 2},
+    frozenset(), frozenset({"a"}), range(3), object(), len, int, Exception(), (0, []), (0, ()), (0, None),
+    (0, set()), (0, "ab"), ({}, 0), (True, {}), (-1, {}), ("0", {}), (None, {}), (0, {}, 0), [0, {}],
+]
+
+
+def nested(wrap, depth):
+    """Tell a thing that many deep in others of its kind."""
+    thing = wrap()
+    for _ in range(depth):
+        thing = wrap(thing)
+    return thing
+
+
+def in_tuple(*things):
+    return tuple(things)
+
+
+def in_list(*things):
+    return list(things)
+
+
+def in_dict(*things):
+    return {"a": thing for thing in things}
+
+
+DEEP = [nested(wrap, 59) for wrap in (in_tuple, in_list, in_dict)]
+ANYTHING = ODDITIES + DEEP
+
+
+def at(thing, path, value):
+    """Tell the thing, of tuples, with another value at the path of places."""
+    if not path:
+        return value
+    first, *rest = path
+    return thing[:first] + (at(thing[first], rest, value),) + thing[first + 1:]
+
+
+# A clause with all that a clause can have, and a town of several deals.
+PLAIN = (0, 1, 1, 1, (), ())
+DEAL = (
+    ("ann", "bob", "cid"),
+    ("rent",),
+    40,
+    (
+        (0, 1, 2, 5, (("joined", 1), ("said", 2, "go"), ("did", 1, 1, 2)), (("did", 0, 1, 0), 3)),
+        (1, 2, 1, 9, (("did", 0, 0, 1),), ()),
+        (2, 0, 9, 4, (), (("said", 0, "stop"), 1)),
+    ),
+)
+RENT = (("dan", "ann"), (), 0, ((0, 1, 1, 1, (), ()), (1, 0, 3, 7, (("joined", 0),), (("joined", 1), 12))))
+TOWN = (6, {"sale": DEAL, "rent": RENT})
+NAMES = {"sale": ("pay", "ship", "thank"), "rent": ("key", "coin")}
+SHOWN = """span 6
+deal sale
+houses ann bob cid
+others rent
+close 40
+pay: ann to bob 2 parts within 5 if bob joined and cid said go and did rent.coin 3 leave after 3 unless did ship 1
+ship: bob to cid 1 parts within 9 if did pay 2
+thank: cid to ann 9 parts within 4 leave after 1 unless ann said stop
+deal rent
+houses dan ann
+close 0
+key: dan to ann 1 parts within 1
+coin: ann to dan 3 parts within 7 if dan joined leave after 12 unless ann joined"""
+
+WORDS = ["a", "b", "bell", "house", "word", "z", "abcdefghijkl", "span" + "x", "pay", "go", "no", "yes", "dealer"]
+
+
+class Maker:
+    """Makes towns by a seed, so that a test meets the same ones at each run."""
+
+    def __init__(self, seed):
+        self.chance = random.Random(seed)
+
+    def words(self, least, most, barred=()):
+        many = self.chance.randint(least, most)
+        return tuple(self.chance.sample([word for word in WORDS if word not in barred], many))
+
+    def number(self, least):
+        return self.chance.choice([least, least + 1, self.chance.randint(least, 99), 10 ** 29])
+
+    def event(self, own, houses, others, parts):
+        sort = self.chance.choice(["joined", "said", "did", "did"])
+        if sort == "joined":
+            return ("joined", self.chance.randrange(houses))
+        if sort == "said":
+            return ("said", self.chance.randrange(houses), self.chance.choice(WORDS))
+        k = self.chance.randint(0, len(others))
+        there = parts[others[k - 1]] if k else parts[None]
+        choices = [c for c in range(len(there)) if k or c != own]
+        if not choices:
+            return ("joined", self.chance.randrange(houses))
+        c = self.chance.choice(choices)
+        return ("did", k, c, self.chance.randrange(there[c]))
+
+    def clause(self, own, houses, others, parts):
+        debtor, creditor = self.chance.sample(range(houses), 2)
+        events = {self.event(own, houses, others, parts) for _ in range(self.chance.randint(0, 9))}
+        events = self.chance.sample(sorted(events, key=str), len(events))
+        leave = ()
+        if events and (len(events) > 8 or self.chance.random() < 0.5):
+            leave = (events.pop(), self.number(1))
+        return (debtor, creditor, parts[None][own], self.number(1), tuple(events), leave)
+
+    def town(self):
+        called = self.words(0, 5)
+        parts = {name: [self.chance.randint(1, 9) for _ in range(self.chance.randint(1, 12))] for name in called}
+        deals = {}
+        names = {}
+        for name in called:
+            houses = self.words(2, 8, ("bell",))
+            others = tuple(self.chance.sample([other for other in called if other != name],
+                                              self.chance.randint(0, min(4, len(called) - 1))))
+            here = dict(parts)
+            here[None] = parts[name]
+            clauses = tuple(self.clause(c, len(houses), others, here) for c in range(len(parts[name])))
+            deals[name] = (houses, others, self.number(0), clauses)
+            names[name] = self.words(len(clauses), len(clauses))
+        return (self.number(0), deals), names
