@@ -1,6 +1,7 @@
 """Things that several tests build on."""
 
 import random
+import unittest
 
 # Things of many kinds; none of them is a word, a deal, a town, a deed, a letter or a pile.
 ODDITIES = [
@@ -44,7 +45,28 @@ def at(thing, path, value):
     return thing[:first] + (at(thing[first], rest, value),) + thing[first + 1:]
 
 
-# A clause with all that a clause can have, and a town of several deals.
+# Things that stand nowhere for a whole number; -1 is below every bound.
+NO_NUMBERS = [True, False, None, -1, "1", "", b"1", (), (1,), [], [1], {}, {1}, object()]
+NO_WORDS = [None, True, 0, "", "A", "Ab", "aB", "a1", "a b", " a", "a ", "a\n", "\n", "a.", "a_", "a:", "{", "`",
+            "abcdefghijklm", b"a", ("a",), ["a"], {"a"}, {"a": 1}, object()]
+
+
+class Checks(unittest.TestCase):
+    """Tests of what tells True or False, and nothing that only counts as such."""
+
+    def yes(self, told, why=None):
+        self.assertIs(told, True, why)
+
+    def no(self, told, why=None):
+        self.assertIs(told, False, why)
+
+
+def letter(house, nr, prev=0, gots=(), deal="sale", deed=("note",), time=0):
+    """Tell a letter with plain values where nothing else is told."""
+    return (house, deal, nr, prev, gots, time, deed)
+
+
+# A clause with nothing to spare, and a town of several deals with all that deals can have.
 PLAIN = (0, 1, 1, 1, (), ())
 DEAL = (
     ("ann", "bob", "cid"),

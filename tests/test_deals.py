@@ -2,21 +2,9 @@ import copy
 import unittest
 
 from holdword.deals import end_of, is_deal, is_town, is_word
-from samples import ANYTHING, DEAL, Maker, PLAIN, RENT, TOWN, at
+from samples import ANYTHING, Checks, DEAL, Maker, NO_NUMBERS, NO_WORDS, PLAIN, RENT, TOWN, at
 
 HUGE = 10 ** 30 - 1
-# Things that stand nowhere for a whole number; -1 is below every bound.
-NO_NUMBERS = [True, False, None, -1, "1", "", b"1", (), (1,), [], [1], {}, {1}, object()]
-NO_WORDS = [None, True, 0, "", "A", "Ab", "aB", "a1", "a b", " a", "a ", "a\n", "\n", "a.", "a_", "a:", "{", "`",
-            "abcdefghijklm", b"a", ("a",), ["a"], {"a"}, {"a": 1}, object()]
-
-
-class Checks(unittest.TestCase):
-    def yes(self, told):
-        self.assertIs(told, True)
-
-    def no(self, told, why=None):
-        self.assertIs(told, False, why)
 
 
 class Words(Checks):
