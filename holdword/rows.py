@@ -1,5 +1,7 @@
 """Rows of letters in a pile, what is seen by them, and the places of events."""
 
+from holdword.events import letters_of
+from holdword.letters import name_of
 from holdword.piles import by_name, followed
 
 
@@ -17,49 +19,69 @@ def row(pile, name):
     return row_among(by_name(pile), name)
 
 
-def seen_with(letters, letter):
-    """List what is seen by a place in a row beyond the places ahead of it: its letter, and the rows of its gots."""
-    found = [letter]
-    for got in letter[4]:
-        found.extend(row_among(letters, got))
-    return found
+def has_beginning(found):
+    """Tell whether a row has its beginning; one without letters has none."""
+    return found != [] and found[0][3] == 0
+
+
+def meet_row(letters, name, at, met):
+    """Add the names of a row, and the gap at which it ends, to those that are met already."""
+    # Where a name is met already, so is all that its letter follows on.
+    while name[2] != 0 and name not in met:
+        met[name] = at
+        if name in letters:
+            name = followed(letters[name])
+
+
+def first_places(letters, found):
+    """Tell a dict from names to the first place of a row by which each is met, gaps among them, the places rising."""
+    met = {}
+    for at, letter in enumerate(found, start=1):
+        met[name_of(letter)] = at
+        for got in letter[4]:
+            meet_row(letters, got, at, met)
+    return met
 
 
 def seen(pile, name):
     """List the letters, sorted by names, that are seen by the place of a letter in its row."""
     letters = by_name(pile)
-    found = {}
-    for letter in row_among(letters, name):
-        found.update(by_name(seen_with(letters, letter)))
-    return [found[other] for other in sorted(found)]
+    met = first_places(letters, row_among(letters, name))
+    return [letters[other] for other in sorted(met) if other in letters]
 
 
-def letters_of(town, name, event):
-    """Tell which letters are an event of the deal of that name: a tuple of their houses, their deal and their deed."""
-    deal = town[1][name]
-    if event[0] == "joined":
-        return ((deal[0][event[1]],), name, ("join",))
-    if event[0] == "said":
-        return ((deal[0][event[1]],), name, ("say", event[2]))
-    k, c, p = event[1:]
-    if k > 0:
-        name = deal[1][k - 1]
-        deal = town[1][name]
-    creditor = deal[0][deal[3][c][1]]
-    return (tuple([house for house in deal[0] if house != creditor]), name, ("do", c, p))
+class View:
+    """What is seen along the row of a letter, and what may be seen through the gaps at which its gots end."""
 
+    def __init__(self, letters, name):
+        self.name = name
+        self.row = row_among(letters, name)
+        self.sure = {}
+        self.unsure = {}
+        for other, at in first_places(letters, self.row).items():
+            if other in letters:
+                house, deal, deed = other[0], other[1], letters[other][6]
+                self.sure.setdefault((house, deal, deed), at)
+            else:
+                self.unsure.setdefault(other[:2], []).append((at, other))
 
-def is_one_of(letter, sought):
-    """Tell whether a letter is among those sought: a tuple of houses, a deal and a deed."""
-    houses, deal, deed = sought
-    return letter[0] in houses and letter[1] == deal and letter[6] == deed
+    def sure_place(self, sought):
+        """Tell the first place by which what is sought is seen, or None."""
+        houses, deal, deed = sought
+        places = [self.sure.get((house, deal, deed)) for house in houses]
+        return min([at for at in places if at is not None], default=None)
+
+    def open_ends(self, sought):
+        """List the gaps through which what is sought may be seen, each behind the first place with a got to it."""
+        houses, deal, deed = sought
+        return [end for house in houses for end in self.unsure.get((house, deal), [])]
+
+    def perhaps_places(self, sought):
+        """List, rising, the places ahead of the sure one by which what is sought may be seen."""
+        sure = self.sure_place(sought)
+        return sorted({at for at, gap in self.open_ends(sought) if sure is None or at < sure})
 
 
 def place(town, pile, name, event):
     """Tell the first place, in the row of a letter, by which an event of its deal is seen; None where it isn't."""
-    letters = by_name(pile)
-    sought = letters_of(town, name[1], event)
-    for at, letter in enumerate(row_among(letters, name), start=1):
-        if any([is_one_of(other, sought) for other in seen_with(letters, letter)]):
-            return at
-    return None
+    return View(by_name(pile), name).sure_place(letters_of(town, name[1], event))

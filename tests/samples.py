@@ -66,6 +66,31 @@ def letter(house, nr, prev=0, gots=(), deal="sale", deed=("note",), time=0):
     return (house, deal, nr, prev, gots, time, deed)
 
 
+def line(house, *steps, deal="sale"):
+    """Tell a row of letters, nrs from 1, each by a time, a deed and perhaps the names that it got."""
+    return [letter(house, nr, nr - 1, tuple(sorted(gots)), deal, deed, time)
+            for nr, (time, deed, *gots) in enumerate(steps, start=1)]
+
+
+def name(house, nr, deal="sale"):
+    return (house, deal, nr)
+
+
+JOIN = ("join",)
+NOTE = ("note",)
+GO = ("say", "go")
+
+
+def clause(debtor=0, creditor=1, parts=1, within=5, conds=(), leave=()):
+    return (debtor, creditor, parts, within, tuple(conds), leave)
+
+
+def town_of(*clauses, close=100, span=0, others=None):
+    """Tell a town whose deal sale is of ann, bob, cid and dan, with the clauses; others are deals that it knows of."""
+    others = others or {}
+    return (span, {"sale": (("ann", "bob", "cid", "dan"), tuple(others), close, clauses), **others})
+
+
 # A clause with nothing to spare, and a town of several deals with all that deals can have.
 PLAIN = (0, 1, 1, 1, (), ())
 DEAL = (

@@ -28,6 +28,9 @@ LEFT_OUT = (
     ast.Yield, ast.YieldFrom, ast.GeneratorExp, ast.NamedExpr, ast.Import, ast.Div, ast.MatMult,
 )
 
+WALKED = ["zip", "enumerate", "reversed", "range", "items", "keys", "values"]
+TAKERS = ["list", "tuple", "dict", "sorted", "sum", "any", "all", "enumerate", "zip", "min", "max"]
+
 UNDERSCORED = ["__init__", "__eq__", "__repr__", "__str__", "__len__"]
 
 
@@ -38,6 +41,11 @@ def sources():
 
 def trees():
     return {name: ast.parse(text) for name, text in sources().items()}
+
+
+def parents(tree):
+    """Tell what each part of a file stands straight within."""
+    return {inner: outer for outer in ast.walk(tree) for inner in ast.iter_child_nodes(outer)}
 
 
 def bound_names(tree):
@@ -138,6 +146,44 @@ class Language(unittest.TestCase):
             for node in ast.walk(tree):
                 if isinstance(node, ast.Name) and node.id not in known:
                     self.assertIn(node.id, OWN_NAMES, (name, node.lineno))
+
+    def test_walked_at_once(self):
+        for name, tree in trees().items():
+            above = parents(tree)
+            for node in ast.walk(tree):
+                if not isinstance(node, ast.Call):
+                    continue
+                own = getattr(node.func, "id", None) or getattr(node.func, "attr", None)
+                if own in WALKED:
+                    outer = above[node]
+                    is_walked = isinstance(outer, (ast.For, ast.comprehension)) and outer.iter == node
+                    is_taken = (isinstance(outer, ast.Call) and getattr(outer.func, "id", None) in TAKERS
+                                and outer.args[0] == node)
+                    self.assertTrue(is_walked or is_taken, (name, node.lineno, own))
+
+    def test_sets_are_asked_at_once(self):
+        for name, tree in trees().items():
+            above = parents(tree)
+            for node in ast.walk(tree):
+                is_call = isinstance(node, ast.Call) and getattr(node.func, "id", None) in ("set", "frozenset")
+                if is_call or isinstance(node, (ast.Set, ast.SetComp)):
+                    outer = above[node]
+                    is_taken = isinstance(outer, ast.Call) and getattr(outer.func, "id", None) in ("sorted", "len")
+                    self.assertTrue(is_taken or isinstance(outer, ast.Compare), (name, node.lineno))
+
+    def test_stars_stand_in_what_is_given(self):
+        for name, tree in trees().items():
+            for node in ast.walk(tree):
+                if isinstance(node, ast.Starred):
+                    self.assertIsInstance(node.ctx, ast.Store, (name, node.lineno))
+
+    def test_names_that_a_file_draws_are_used(self):
+        for name, tree in trees().items():
+            used = {node.id for node in ast.walk(tree) if isinstance(node, ast.Name)}
+            for node in tree.body:
+                if isinstance(node, ast.ImportFrom):
+                    for drawn in node.names:
+                        self.assertIn(drawn.name, used, name)
 
     def test_methods(self):
         own = {node.name for tree in trees().values() for top in tree.body if isinstance(top, ast.ClassDef)

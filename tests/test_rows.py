@@ -5,11 +5,8 @@ import unittest
 from holdword.letters import name_of
 from holdword.piles import is_pile
 from holdword.rows import place, row, seen
-from samples import DEAL, TOWN, letter
-
-
-def name(house, nr, deal="sale"):
-    return (house, deal, nr)
+from plain import slow_row
+from samples import DEAL, TOWN, letter, name
 
 
 ANN = [letter("ann", nr, nr - 1) for nr in (1, 2, 3)]
@@ -255,19 +252,6 @@ class Places(unittest.TestCase):
         for turn in range(2):
             self.assertEqual(place(town, pile, ("ann", "sale", 9), ("joined", 1)), 3)
             self.assertEqual((town, pile), (TOWN, kept))
-
-
-def slow_row(pile, own):
-    """The row, word by word as it is told."""
-    found = []
-    while True:
-        letters = [other for other in pile if name_of(other) == own]
-        if not letters or letters[0] in found:
-            return found
-        found.insert(0, letters[0])
-        if letters[0][3] == 0:
-            return found
-        own = own[:2] + (letters[0][3],)
 
 
 def slow_seen(pile, own):
