@@ -91,6 +91,23 @@ def town_of(*clauses, close=100, span=0, others=None):
     return (span, {"sale": (("ann", "bob", "cid", "dan"), tuple(others), close, clauses), **others})
 
 
+ANN = name("ann", 1)
+# Things that are nearly claims.
+NO_CLAIMS = [("held", ANN), ("held", ANN, 0), ("held", ANN, True, 6), ("held", ANN, 0, True), ("held", ANN, 0, -1),
+             ("held", ANN, 12, 6), ("held", list(ANN), 0, 6), ("kept", ANN), ("kept", ANN, 12), ("kept", ANN, False),
+             ("late", ANN, -1), ("ill",), ("ill", ANN, 0), ("ill", "ann"), ("twin", ANN), ("twin", ANN, 3), ("broke", ANN),
+             ("ill", ("ann", "sale", 0)), ("ill", ("ann", "sale", True)), ("ill", ("Ann", "sale", 1)), ["ill", ANN],
+             ("held", ANN, "0", 6), ("back", ("ann", "sale")), ("ahead", ("ann", "sale", 1, 1))]
+
+
+def claims_on(names, clauses=(0, 1, 11), dues=(0, 6, 51)):
+    """Claims of all forms on the names."""
+    found = [(word, own) for own in names for word in ("ill", "back", "loose", "behind", "ahead")]
+    found += [(word, own, c) for own in names for c in clauses for word in ("kept", "late")]
+    found += [("held", own, c, due) for own in names for c in clauses for due in dues]
+    return found + [("twin", own, other) for own in names for other in names]
+
+
 # A clause with nothing to spare, and a town of several deals with all that deals can have.
 PLAIN = (0, 1, 1, 1, (), ())
 DEAL = (
