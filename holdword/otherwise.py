@@ -25,7 +25,7 @@ def letters_behind(gap, deeds, numbers):
     """List a letter for a gap, and letters with the deeds, at least one, that it follows on one behind another."""
     house, deal, nr = gap
     nrs = [nr] + [numbers.fresh(house, deal) for deed in deeds]
-    # The last one follows on itself, so no row through the gap has a beginning, and the gap is no twin.
+    # The last one follows on itself: no row through the gap has a beginning, and only fresh letters are twins of it.
     prevs = nrs[1:] + nrs[-1:]
     return [(house, deal, own, prev, (), 0, deed) for own, prev, deed in zip(nrs, prevs, [("note",)] + deeds)]
 
