@@ -141,6 +141,11 @@ def is_town(thing):
     return all([fits_town(name, deal, deals) for name, deal in deals.items()])
 
 
+def own_town(town):
+    """Tell a town that nothing done to the dict of the one handed in changes."""
+    return (town[0], dict(town[1]))
+
+
 def end_of(deal):
     """Tell the end of a deal: its close and the greatest within of its clauses."""
     return deal[2] + max([clause[3] for clause in deal[3]])

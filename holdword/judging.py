@@ -76,14 +76,20 @@ def way_out(town, pile, comings, claim):
     return None if supposed is None else deeds_behind(view, supposed)
 
 
+def told_on(town, letters, name):
+    """List the claims on a letter, but for marks, that are told by letters, a dict from names to them."""
+    view = view_of(town, letters, name)
+    if view is None:
+        return []
+    # What is told is said where the gaps hide nothing, too.
+    said = Reader(town, view, {}).claims()
+    return [claim for claim in said if doubt(town, view, claim) is None]
+
+
 def told(town, pile, comings):
     """List the claims that are said of each whole pile that has all letters of the pile."""
     letters = by_name(pile)
     found = marks(town, pile, comings)
     for name in letters:
-        view = view_of(town, letters, name)
-        if view is not None:
-            # What is told is said where the gaps hide nothing, too.
-            said = Reader(town, view, {}).claims()
-            found.extend([claim for claim in said if doubt(town, view, claim) is None])
+        found.extend(told_on(town, letters, name))
     return in_order(found)
