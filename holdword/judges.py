@@ -29,7 +29,7 @@ def touched(letters, name):
     """List the names of the letters of which more may be told since the letter of a name came."""
     rows = with_followers(letters, [name])
     getting = [other for other, letter in letters.items() if any([got in rows for got in letter[4]])]
-    return list(with_followers(letters, list(rows) + getting))
+    return list(with_followers(letters, getting + [name]))
 
 
 class Judge:

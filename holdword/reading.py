@@ -79,11 +79,15 @@ class Reader:
         """Tell the due of clause c that begins at a place."""
         return self.times[begun - 1] + self.deal[3][c][3]
 
-    def is_kept(self, c, begun):
-        """Tell whether all parts of clause c are done from its begin on, none of them behind due."""
+    def undone(self, c, begun):
+        """List the parts of clause c that aren't done from its begin on, or only behind due."""
         due = self.due(c, begun)
         done = [deed for deed, time in zip(self.deeds[begun - 1:], self.times[begun - 1:]) if time <= due]
-        return all([("do", c, p) in done for p in range(self.deal[3][c][2])])
+        return [p for p in range(self.deal[3][c][2]) if ("do", c, p) not in done]
+
+    def is_kept(self, c, begun):
+        """Tell whether all parts of clause c are done from its begin on, none of them behind due."""
+        return self.undone(c, begun) == []
 
     def hands_on(self, c, many):
         """Tell whether one of the first so many letters of the row hands clause c on."""

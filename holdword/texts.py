@@ -57,14 +57,19 @@ def need_form(words, form, at):
     need(all([part in ("", word) for part, word in zip(form, words)]), at)
 
 
+def words_in(line):
+    """List the words of a row: blanks, one or more, part them."""
+    return [word for word in line.split(" ") if word]
+
+
 def is_name(word):
     """Tell whether a text may name something by the word."""
     return is_word(word) and word not in ROW_WORDS
 
 
 def is_figures(word):
-    """Tell whether a text, not empty, writes a number: no nought stands ahead of other figures."""
-    return all([sign in FIGURES for sign in word]) and (word == "0" or word[0] != "0")
+    """Tell whether a text writes a number: no nought stands ahead of other figures."""
+    return word == "0" or word != "" and word[0] != "0" and all([sign in FIGURES for sign in word])
 
 
 def read_number(word, least, at):
@@ -336,7 +341,7 @@ def read_town(text):
     draft = TownDraft()
     turn = "span"
     for at, line in enumerate(text.split("\n"), start=1):
-        words = [word for word in line.split(" ") if word]
+        words = words_in(line)
         if words:
             draft.at = at
             read_row = TURNS[turn]
